@@ -1,0 +1,1 @@
+"""Oldclients: the object model of a compiler, and binary compatibility."""

@@ -1,0 +1,1 @@
+"""The tests of oldclients; `python3 -m unittest discover -s tests -t .` runs them."""

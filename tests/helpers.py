@@ -1,0 +1,106 @@
+"""What several tests need: short ways to declare things, the diamond, and values of wrong kinds."""
+
+from oldclients.declared import Body, Class, Field, Method, Routine
+from oldclients.errors import OldError
+from oldclients.libraries import Library
+
+
+class Echo:
+    """An object that is equal to everything, and cannot be hashed."""
+
+    def __eq__(self, other):
+        return True
+
+    __hash__ = None
+
+
+class Grump:
+    """An object that can be neither compared nor hashed nor tested."""
+
+    def __eq__(self, other):
+        raise RuntimeError("compared")
+
+    def __bool__(self):
+        raise RuntimeError("tested")
+
+    def __hash__(self):
+        raise RuntimeError("hashed")
+
+
+class Bag:
+    """An object that has attributes as the declared ones have, and is none of them."""
+
+    def __init__(self, **values):
+        self.__dict__.update(values)
+
+
+def strangers():
+    """Return objects that are neither texts, tuples, bools, integers nor declared objects."""
+    return [None, [], ["A"], {}, {"A": 1}, set(), {"A"}, b"A", object(), Echo(), Grump(), Bag(name="A"), len, str,
+            frozenset(), range(2), NotImplemented, ...]
+
+
+def wrong_names():
+    """Return objects that are the name of no class that a test declares."""
+    return strangers() + ["", "a", "Z", "A ", " A", "AA", "a" * 13, "A\n", 0, 1, -1, True, False, (), ("A",),
+                          ("A", "plain"), Class("A"), Field("a", "int1"), Library([])]
+
+
+def opened(name, kind="open", params=(), result=None, shown=True, steps=()):
+    """Return an open method, or one of another kind that has a body."""
+    return Method(name, kind, params, result, Body((), steps), shown)
+
+
+def plain(name, params=(), result=None, shown=True):
+    """Return a plain method."""
+    return opened(name, "plain", params, result, shown)
+
+
+def bare(name, params=(), result=None, shown=True):
+    """Return a bare method."""
+    return Method(name, "bare", params, result, None, shown)
+
+
+def own(name, bases="", fields="", methods=(), **marks):
+    """Return a class from short texts: bases as "A +B" (+ is shared), fields as "a4 b1"."""
+    pairs = tuple((base.lstrip("+"), "shared" if base[0] == "+" else "plain") for base in bases.split())
+    rows = tuple(Field(field[:-1], "int" + field[-1]) for field in fields.split())
+    named = tuple(opened(method) if isinstance(method, str) else method for method in methods)
+    return Class(name, pairs, rows, named, **marks)
+
+
+def diamond_classes():
+    """Return the classes of the diamond of the document."""
+    return [own("A", "", "a4", ["f"]), own("B", "+A", "b1", ["f"]), own("C", "+A", "c8", ["g"]),
+            own("D", "B C", "d2", ["g"])]
+
+
+def diamond():
+    """Return the library of the diamond."""
+    return Library(diamond_classes())
+
+
+def routine(name="r", params=(), result=None, body=None):
+    """Return a routine with a body."""
+    return Routine(name, params, result, Body() if body is None else body)
+
+
+def fields_of(error):
+    """Return the class name of an error and its fields, in the order in which it has them."""
+    return (type(error).__name__,) + tuple(error.__dict__.values())
+
+
+def raised(call, *args, **named):
+    """Return what a call raises, as fields_of gives it; None if it raises nothing."""
+    try:
+        call(*args, **named)
+    except OldError as error:
+        return fields_of(error)
+    return None
+
+
+def refused(classes, *more):
+    """Return (number, part, index) of what Library raises, or None."""
+    error = raised(Library, classes, *more)
+    assert error is None or error[0] == "NoLibrary", error
+    return error and error[1:]

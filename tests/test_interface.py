@@ -1,0 +1,71 @@
+"""The interface of the document: names, arguments, and where they are defined."""
+
+import importlib
+import inspect
+import unittest
+
+INTERFACE = {
+    "errors": {
+        "OldError": None, "NoLibrary": "(number, part, index)", "NoClass": "(name)", "NoMember": "(name)",
+        "NoTables": "(index)", "NoFields": "(index)", "NoRoom": "(size)", "NoBody": "(where, at)",
+        "NoClient": "(number, part, index)", "Lacks": "(need)", "NoText": "(at)", "NoVersions": "(index)",
+        "NoVersion": "(number)", "NoPlace": "(place)", "NoReference": "(place)", "NoNeed": "(need)",
+        "NoNumber": "(number)", "NoPace": "(pace)",
+    },
+    "declared": {
+        "Field": "(name, form, start=0, shown=True)", "Body": "(variables=(), steps=())",
+        "Method": "(name, kind, params=(), result=None, body=None, shown=True)",
+        "Class": "(name, bases=(), fields=(), methods=(), closed=False, lent=False)",
+        "Routine": "(name, params=(), result=None, body=None)",
+    },
+    "libraries": {"Library": "(classes, routines=())"},
+    "layouts": {"Layout": "(library)", "check_tables": "(layout, name, tables)"},
+}
+METHODS = {
+    ("libraries", "Library"): {
+        "names": "(self)", "routines": "(self)", "item": "(self, name)", "ancestors": "(self, name)",
+        "walk": "(self, name)", "near": "(self, name)", "is_open": "(self, name)", "introducers": "(self, name)",
+        "last_override": "(self, name, introducer, method)", "is_bare": "(self, name)",
+        "found": "(self, name, member, *, hidden=False)",
+    },
+    ("layouts", "Layout"): {
+        "near_size": "(self, name)", "alignment": "(self, name)", "whole_size": "(self, name)",
+        "places": "(self, name)", "field_places": "(self, name)", "pointers": "(self, name)",
+        "reach": "(self, name, ancestor)", "field_reach": "(self, name, owner, field)", "entries": "(self, name)",
+        "ways": "(self, name)", "method_number": "(self, introducer, method)", "tables": "(self, name)",
+    },
+}
+SIGNS = {
+    ("declared", "Field"): ["__eq__"], ("declared", "Body"): ["__eq__"], ("declared", "Method"): ["__eq__"],
+    ("declared", "Class"): ["__eq__"], ("declared", "Routine"): ["__eq__"],
+    ("libraries", "Library"): ["__eq__", "__getitem__", "__contains__"], ("layouts", "Layout"): ["__eq__"],
+}
+
+
+def module(name):
+    """Return a module of the package."""
+    return importlib.import_module("oldclients." + name)
+
+
+class Interface(unittest.TestCase):
+    def test_names_and_arguments(self):
+        for file, things in INTERFACE.items():
+            for name, signature in things.items():
+                thing = getattr(module(file), name)
+                self.assertEqual(thing.__module__, "oldclients." + file)
+                if signature is not None:
+                    self.assertEqual(str(inspect.signature(thing)), signature, name)
+
+    def test_methods_are_defined_in_the_class_itself(self):
+        for (file, name), methods in METHODS.items():
+            for method, signature in methods.items():
+                found = vars(getattr(module(file), name))[method]
+                self.assertEqual(str(inspect.signature(found)), signature, method)
+                self.assertEqual(found.__module__, "oldclients." + file)
+        for (file, name), signs in SIGNS.items():
+            for sign in signs:
+                self.assertIn(sign, vars(getattr(module(file), name)))
+
+
+if __name__ == "__main__":
+    unittest.main()
