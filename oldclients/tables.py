@@ -7,8 +7,6 @@ FIRST_WAY = -3
 
 def shape_of(library, name, part, shapes):
     """Return the shape of the table of a class: its entries and its ways, which begin as those of the primary base."""
-    if not part.headed:
-        return [], []
     entries, ways = [], []
     if part.primary is not None:
         entries, ways = shapes[part.primary]

@@ -100,6 +100,23 @@ class Parts(unittest.TestCase):
                 found = refused([own("A"), Class("X", (), fields), own("Z")])
                 self.assertEqual(found, (1, "fields", index), repr(field))
 
+    def test_every_index_of_a_member(self):
+        for index in range(8):
+            fields = [Field(f"a{at}", "int1") for at in range(8)]
+            methods = [opened(f"f{at}") for at in range(8)]
+            fields[index] = methods[index] = None
+            self.assertEqual(refused([Class("A", (), tuple(fields))]), (0, "fields", index))
+            self.assertEqual(refused([Class("A", (), (), tuple(methods))]), (0, "methods", index))
+
+    def test_every_number(self):
+        for number in range(20):
+            classes = [own(f"A{at}") for at in range(20)]
+            routines = [routine(f"r{at}") for at in range(20)]
+            routines[number] = None
+            self.assertEqual(refused(classes, routines), (number, "routine", -1))
+            classes[number] = None
+            self.assertEqual(refused(classes, routines), (number, "class", -1))
+
     def test_a_field_for_the_second_time(self):
         a, b = Field("a", "int1"), Field("b", "int1")
         self.assertEqual(refused([Class("A", (), (a, a))]), (0, "fields", 1))
