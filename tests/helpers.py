@@ -4,6 +4,14 @@ from oldclients.declared import Body, Class, Field, Method, Routine
 from oldclients.errors import OldError
 from oldclients.libraries import Library
 
+ERROR_FIELDS = {
+    "NoLibrary": ("number", "part", "index"), "NoClass": ("name",), "NoMember": ("name",), "NoTables": ("index",),
+    "NoFields": ("index",), "NoRoom": ("size",), "NoBody": ("where", "at"),
+    "NoClient": ("number", "part", "index"), "Lacks": ("need",), "NoText": ("at",), "NoVersions": ("index",),
+    "NoVersion": ("number",), "NoPlace": ("place",), "NoReference": ("place",), "NoNeed": ("need",),
+    "NoNumber": ("number",), "NoPace": ("pace",),
+}
+
 
 class Echo:
     """An object that is equal to everything, and cannot be hashed."""
@@ -36,14 +44,20 @@ class Bag:
 
 def strangers():
     """Return objects that are neither texts, tuples, bools, integers nor declared objects."""
-    return [None, [], ["A"], {}, {"A": 1}, set(), {"A"}, b"A", object(), Echo(), Grump(), Bag(name="A"), len, str,
-            frozenset(), range(2), NotImplemented, ...]
+    return [None, [], ["A"], {}, {"A": 1}, set(), {"A"}, b"A", object(), Bag(name="A"), len, str, frozenset(),
+            range(2), NotImplemented, ...]
+
+
+def oddities():
+    """Return objects that answer oddly if they are looked up or compared before their kind is looked at."""
+    return [Echo(), Grump()]
 
 
 def wrong_names():
     """Return objects that are the name of no class that a test declares."""
-    return strangers() + ["", "a", "Z", "A ", " A", "AA", "a" * 13, "A\n", 0, 1, -1, True, False, (), ("A",),
-                          ("A", "plain"), Class("A"), Field("a", "int1"), Library([])]
+    others = ["", "a", "Z", "A ", " A", "AA", "a" * 13, "A\n", 0, 1, -1, True, False, (), ("A",), ("A", "plain"),
+              Class("A"), Field("a", "int1"), Library([])]
+    return strangers() + oddities() + others
 
 
 def opened(name, kind="open", params=(), result=None, shown=True, steps=()):
@@ -86,8 +100,9 @@ def routine(name="r", params=(), result=None, body=None):
 
 
 def fields_of(error):
-    """Return the class name of an error and its fields, in the order in which it has them."""
-    return (type(error).__name__,) + tuple(error.__dict__.values())
+    """Return the class name of an error and its fields."""
+    kind = type(error).__name__
+    return (kind,) + tuple(getattr(error, field) for field in ERROR_FIELDS[kind])
 
 
 def raised(call, *args, **named):

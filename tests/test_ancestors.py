@@ -5,7 +5,7 @@ import unittest
 from oldclients.declared import Class, Field
 from oldclients.errors import NoClass, NoMember
 from oldclients.libraries import Library
-from tests.helpers import bare, diamond, opened, own, plain, raised, strangers, wrong_names
+from tests.helpers import bare, diamond, oddities, opened, own, plain, raised, strangers, wrong_names
 
 ASKED = ["ancestors", "walk", "near", "is_open", "introducers", "is_bare"]
 
@@ -285,7 +285,7 @@ class Found(unittest.TestCase):
         for name in wrong_names():
             self.assertRaises(NoClass, self.library.found, name, "a")
             self.assertRaises(NoClass, self.library.found, name, None)
-        for member in strangers() + [0, 1, True, (), ("a",), Field("a", "int1"), opened("f")]:
+        for member in strangers() + oddities() + [0, 1, True, (), ("a",), Field("a", "int1"), opened("f")]:
             for hidden in (True, False):
                 with self.assertRaises(NoMember) as caught:
                     self.library.found("A", member, hidden=hidden)

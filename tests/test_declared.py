@@ -4,7 +4,7 @@ import unittest
 
 from oldclients.declared import Body, Class, Field, Method, Routine
 from oldclients.libraries import Library
-from tests.helpers import Bag, Echo, Grump, bare, opened, own, plain, refused, routine, strangers, wrong_names
+from tests.helpers import Bag, bare, oddities, opened, own, plain, refused, routine, strangers, wrong_names
 
 SMALL_SIGNS = "abcdefghijklmnopqrstuvwxyz"
 BIG_SIGNS = SMALL_SIGNS.upper()
@@ -33,7 +33,7 @@ class Attributes(unittest.TestCase):
         for made, values in EXAMPLES:
             for thing in (made(*values.values()), made(**values), made(**dict(reversed(list(values.items()))))):
                 for name, value in values.items():
-                    self.assertIs(getattr(thing, name), value)
+                    self.assertEqual(getattr(thing, name), value)
 
     def test_defaults(self):
         for made, values in EXAMPLES:
@@ -48,7 +48,8 @@ class Attributes(unittest.TestCase):
             for value in strangers() + [7, "", True, ()]:
                 thing = made(*[value] * len(values))
                 for name in values:
-                    self.assertIs(getattr(thing, name), value)
+                    self.assertEqual(getattr(thing, name), value)
+                    self.assertIs(type(getattr(thing, name)), type(value))
 
 
 class Equality(unittest.TestCase):
@@ -111,9 +112,9 @@ class Names(unittest.TestCase):
             self.assertIsNone(refused([], [routine(name)]), name)
 
     def test_wrong_small_names(self):
-        wrong = ["", "a" * 13, "A", "Ab", "9a", "a_b", "_a", "a b", " a", "a ", "a\n", "a.b", "a-b", "\u00e9", "a\u00e9",
-                 "\u0430", "a\u0663", "a\u00b2", "\uff41", "a\0", 0, 1, True, ("a",), Field("a", "int1")]
-        for name in wrong + strangers():
+        wrong = ["", "a" * 13, "A", "Ab", "9a", "a_b", "_a", "a b", " a", "a ", "a\n", "a.b", "a-b", "\u00e9",
+                 "a\u00e9", "\u0430", "a\u0663", "a\u00b2", "\uff41", "a\0", 0, 1, True, ("a",), Field("a", "int1")]
+        for name in wrong + strangers() + oddities():
             self.assertFalse(field_is_right(Field(name, "int1")), repr(name))
             self.assertFalse(method_is_right(opened(name)), repr(name))
             self.assertEqual(refused([], [routine(name)]), (0, "routine", 0), repr(name))
@@ -143,7 +144,7 @@ class Forms(unittest.TestCase):
             self.assertTrue(method_is_right(opened("f", params=(("p", form),), result=form)), form)
         wrong = ["int", "int3", "int16", "int 1", "Int1", "INT1", "C", "a", "", "int1 ", "this", 1, 8, True,
                  ("int1",), ("A",), Class("A"), "A B"]
-        for form in wrong + [value for value in strangers() if value is not None]:
+        for form in wrong + [value for value in strangers() + oddities() if value is not None]:
             self.assertFalse(field_is_right(Field("a", form)), repr(form))
             self.assertFalse(method_is_right(opened("f", params=(("p", form),))), repr(form))
             self.assertFalse(method_is_right(opened("f", result=form)), repr(form))
@@ -167,14 +168,14 @@ class Forms(unittest.TestCase):
 
     def test_starts_of_other_kinds(self):
         for form in ("int1", "int8", "A"):
-            for start in strangers() + [True, False, "0", (0,), (), Field("a", "int1")]:
+            for start in strangers() + oddities() + [True, False, "0", (0,), (), Field("a", "int1")]:
                 self.assertFalse(field_is_right(Field("a", form, start)), repr(start))
 
     def test_shown_is_a_bool(self):
         for shown in (True, False):
             self.assertTrue(field_is_right(Field("a", "int1", 0, shown)))
             self.assertTrue(method_is_right(opened("f", shown=shown)))
-        for shown in strangers() + [0, 1, "", "True", ()]:
+        for shown in strangers() + oddities() + [0, 1, "", "True", ()]:
             self.assertFalse(field_is_right(Field("a", "int1", 0, shown)), repr(shown))
             self.assertFalse(method_is_right(opened("f", shown=shown)), repr(shown))
             self.assertFalse(method_is_right(bare("f", shown=shown)), repr(shown))
@@ -282,9 +283,10 @@ class Classes(unittest.TestCase):
                                          tuple(opened(f"f{at}") for at in range(8)))]))
 
     def test_wrong_values_do_not_hide_behind_equality(self):
-        for odd in (Echo(), Grump()):
+        for odd in oddities():
+            self.assertEqual(refused([odd]), (0, "class", -1))
+            self.assertEqual(refused([own("A"), Class("B", odd)]), (1, "bases", -1))
             self.assertEqual(refused([own("A"), Class("B", ((odd, "plain"),))]), (1, "bases", 0))
-            self.assertEqual(refused([own("A"), Class("B", (("A", odd),))]), (1, "bases", 0))
             self.assertEqual(refused([Class("A", closed=odd)]), (0, "marks", -1))
             self.assertEqual(refused([Class("A", lent=odd)]), (0, "marks", -1))
 

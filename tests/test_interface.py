@@ -4,14 +4,10 @@ import importlib
 import inspect
 import unittest
 
+from tests.helpers import ERROR_FIELDS
+
 INTERFACE = {
-    "errors": {
-        "OldError": None, "NoLibrary": "(number, part, index)", "NoClass": "(name)", "NoMember": "(name)",
-        "NoTables": "(index)", "NoFields": "(index)", "NoRoom": "(size)", "NoBody": "(where, at)",
-        "NoClient": "(number, part, index)", "Lacks": "(need)", "NoText": "(at)", "NoVersions": "(index)",
-        "NoVersion": "(number)", "NoPlace": "(place)", "NoReference": "(place)", "NoNeed": "(need)",
-        "NoNumber": "(number)", "NoPace": "(pace)",
-    },
+    "errors": {name: None for name in ["OldError", *ERROR_FIELDS]},
     "declared": {
         "Field": "(name, form, start=0, shown=True)", "Body": "(variables=(), steps=())",
         "Method": "(name, kind, params=(), result=None, body=None, shown=True)",

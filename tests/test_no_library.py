@@ -339,7 +339,8 @@ class Order(unittest.TestCase):
 
 class Routines(unittest.TestCase):
     def test_index(self):
-        for value in strangers() + [7, "r", (), opened("r"), Body(), Bag(name="r", params=(), result=None, body=Body())]:
+        alike = Bag(name="r", params=(), result=None, body=Body())
+        for value in strangers() + [7, "r", (), opened("r"), Body(), alike]:
             self.assertEqual(refused([], [value]), (0, "routine", -1), repr(value))
             self.assertEqual(refused([own("A")], (routine("r"), value, None)), (1, "routine", -1), repr(value))
         self.assertEqual(refused([], [routine("R")]), (0, "routine", 0))

@@ -6,7 +6,7 @@ from oldclients.declared import Class, Field
 from oldclients.errors import NoClass, NoMember
 from oldclients.layouts import Layout
 from oldclients.libraries import Library
-from tests.helpers import diamond, diamond_classes, opened, own, plain, raised, strangers, wrong_names
+from tests.helpers import diamond, diamond_classes, oddities, opened, own, plain, raised, strangers, wrong_names
 
 
 def laid(*classes):
@@ -243,7 +243,7 @@ class Reaches(unittest.TestCase):
 
     def test_no_member(self):
         layout = Layout(diamond())
-        for field in strangers() + ["", "b", "f", "z", "A", 0, True, ("a",), Field("a", "int4")]:
+        for field in strangers() + oddities() + ["", "b", "f", "z", "A", 0, True, ("a",), Field("a", "int4")]:
             with self.assertRaises(NoMember) as caught:
                 layout.field_reach("D", "A", field)
             self.assertIs(caught.exception.name, field)
@@ -303,7 +303,7 @@ class Equality(unittest.TestCase):
 
     def test_only_the_numbers_and_tables_count(self):
         old = laid(own("A", "", "a4"))
-        self.assertTrue(old == laid(Class("A", (), (Field("a", "int4", 7, False),), (plain("p"),), True, True)))
+        self.assertTrue(old == laid(Class("A", (), (Field("a", "int4", 0, False),), (plain("p"),), True, True)))
         self.assertFalse(old == laid(own("A", "", "b4")))
         self.assertFalse(old == laid(own("A", "", "a2")))
         self.assertFalse(old == laid(own("A", "", "a4", ["f"])))

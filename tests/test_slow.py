@@ -15,7 +15,7 @@ RESULTS = {"f": None, "g": "int4", "h": "C0", "k": "int1"}
 
 def some_method(chance, name):
     """Return a method of some kind; its forms are mostly those of its name."""
-    kind = chance.choice(["open", "open", "open", "open", "bare", "plain"] if chance.random() < 0.1 else ["open", "open", "open", "bare"])
+    kind = chance.choice(["open", "open", "open", "bare"] if chance.random() < 0.95 else ["plain"])
     result = RESULTS[name] if chance.random() < 0.97 else "int2"
     shown = chance.random() < 0.8
     return Method(name, kind, (("p", "int1"),), result, None if kind == "bare" else Body(), shown)

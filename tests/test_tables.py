@@ -5,7 +5,7 @@ import unittest
 from oldclients.errors import NoClass, NoMember, NoTables
 from oldclients.layouts import Layout, check_tables
 from oldclients.libraries import Library
-from tests.helpers import bare, diamond, opened, own, plain, raised, strangers, wrong_names
+from tests.helpers import bare, diamond, oddities, opened, own, plain, raised, strangers, wrong_names
 
 DIAMOND_TABLES = [
     ("D", 0, (("A", 40),), ()),
@@ -110,7 +110,7 @@ class Shapes(unittest.TestCase):
                 layout.method_number(name, "f")
             self.assertIs(caught.exception.name, name)
             self.assertRaises(NoClass, layout.method_number, name, name)
-        for method in strangers() + ["", "f", "F", "a", "z", "u", 0, 1, -1, True, ("B", "g"), opened("g")]:
+        for method in strangers() + oddities() + ["", "f", "F", "a", "z", "u", 0, 1, -1, True, ("B", "g"), opened("g")]:
             with self.assertRaises(NoMember) as caught:
                 layout.method_number("B", method)
             self.assertIs(caught.exception.name, method)
@@ -277,7 +277,8 @@ class Checks(unittest.TestCase):
         self.assertEqual(self.found([DIAMOND_TABLES[0], DIAMOND_TABLES[2], DIAMOND_TABLES[1]]), 1)
 
     def test_other_kinds_of_tables(self):
-        for value in strangers() + [7, "", "DDDD", True, (), ("C",), list(DIAMOND_TABLES[1]), DIAMOND_TABLES[1] + ((),)]:
+        longer = DIAMOND_TABLES[1] + ((),)
+        for value in strangers() + oddities() + [7, "", "DDDD", True, (), ("C",), list(DIAMOND_TABLES[1]), longer]:
             self.assertEqual(self.found([DIAMOND_TABLES[0], value, DIAMOND_TABLES[2]]), 1, repr(value))
 
     def test_each_thing_that_differs(self):
@@ -306,7 +307,7 @@ class Checks(unittest.TestCase):
             ("C", 16, ("A", 24), ((("C", "g"), "D", -16),)),
             ("C", 16),
         ]
-        for value in strangers():
+        for value in strangers() + oddities():
             wrong += [(value,) + DIAMOND_TABLES[1][1:], DIAMOND_TABLES[1][:3] + (value,),
                       ("C", value) + DIAMOND_TABLES[1][2:], ("C", 16, value, DIAMOND_TABLES[1][3]),
                       ("C", 16, ((value, 24),), DIAMOND_TABLES[1][3]), ("C", 16, (("A", value),), DIAMOND_TABLES[1][3]),
