@@ -2,7 +2,7 @@
 
 from oldclients.declared import Class
 from oldclients.errors import NoLibrary
-from oldclients.families import Family, are_one_parts, do_names_agree
+from oldclients.families import Family, are_one_parts, do_names_agree, introduced_by, overriding
 from oldclients.forms import is_class_name, is_mark
 from oldclients.members import is_field, is_method, is_pair, is_row, wrong_member, wrong_of_routine
 
@@ -39,13 +39,16 @@ def wrong_base(bases, earlier):
     return None
 
 
-def wrong_in_head(item, family):
-    """Return the pair (part, index) of what is wrong with a class ahead of its members, None if nothing is."""
+def wrong_in_head(item, family, is_name, earlier):
+    """Return the pair (part, index) of what is wrong with a class ahead of its members, None if nothing is.
+
+    is_name tells what names such classes may have, earlier has the names of the classes that may be bases.
+    """
     if not isinstance(item, Class):
         return "class", -1
-    if not is_class_name(item.name) or item.name in family.classes:
+    if not is_name(item.name) or item.name in family.classes:
         return "name", -1
-    index = wrong_base(item.bases, family.classes)
+    index = wrong_base(item.bases, earlier)
     if index is not None:
         return "bases", index
     family.take_bases(item)
@@ -54,8 +57,8 @@ def wrong_in_head(item, family):
     return None
 
 
-def wrong_in_members(item, family, names):
-    """Return the pair (part, index) of what is wrong with the members and marks of a class, None if nothing is."""
+def wrong_in_rows(item, names):
+    """Return the pair (part, index) of the first wrong field or method of a class, None if there is none."""
     index = wrong_member(item.fields, MOST_FIELDS, [], names, is_field)
     if index is not None:
         return "fields", index
@@ -63,14 +66,34 @@ def wrong_in_members(item, family, names):
     index = wrong_member(item.methods, MOST_METHODS, taken, names, is_method)
     if index is not None:
         return "methods", index
-    if not do_names_agree(family, item.name):
+    return None
+
+
+def wrong_in_family(item, family, hidden):
+    """Return the pair (part, index) of what is wrong with the members of a class beside those of its ancestors.
+
+    hidden tells whether hidden names of the library count.
+    """
+    if not do_names_agree(family, item.name, hidden):
         return "names", -1
-    family.take_methods(item)
+    if item.name in family.overs:
+        family.overs[item.name] = overriding(family, item)
+    family.take_methods(item, introduced_by(family, item, hidden))
     if None in list(family.lasts[item.name].values()):
         return "overrides", -1
-    if not is_mark(item.closed) or not is_mark(item.lent):
-        return "marks", -1
     return None
+
+
+def wrong_in_class(item, family, names):
+    """Return the pair (part, index) of what is wrong with a class of a library, None if nothing is."""
+    wrong = wrong_in_head(item, family, is_class_name, family.classes)
+    if wrong is None:
+        wrong = wrong_in_rows(item, names)
+    if wrong is None:
+        wrong = wrong_in_family(item, family, True)
+    if wrong is None and not (is_mark(item.closed) and is_mark(item.lent)):
+        wrong = "marks", -1
+    return wrong
 
 
 def checked_family(classes):
@@ -78,9 +101,7 @@ def checked_family(classes):
     family = Family()
     names = named_classes(classes)
     for number, item in enumerate(classes):
-        wrong = wrong_in_head(item, family)
-        if wrong is None:
-            wrong = wrong_in_members(item, family, names)
+        wrong = wrong_in_class(item, family, names)
         if wrong is not None:
             part, index = wrong
             raise NoLibrary(number, part, index)

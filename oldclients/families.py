@@ -8,7 +8,8 @@ class Family:
 
     above: its ancestors, in order; walks: its walk; nears: its near part; own: its methods by their names;
     news: the names of the methods that it introduces; calls: its introducers; lasts: for each of these the
-    class of its last override, None if there is none.
+    class of its last override, None if there is none. overs has the classes of a client alone (28): the names
+    of the methods by which each of them overrides those of the library.
     """
 
     def __init__(self):
@@ -18,8 +19,23 @@ class Family:
         self.nears = {}
         self.own = {}
         self.news = {}
+        self.overs = {}
         self.calls = {}
         self.lasts = {}
+
+    def copied(self):
+        """Return a family of the same classes, to which others can be added."""
+        other = Family()
+        other.classes = dict(self.classes)
+        other.above = dict(self.above)
+        other.walks = dict(self.walks)
+        other.nears = dict(self.nears)
+        other.own = dict(self.own)
+        other.news = dict(self.news)
+        other.overs = dict(self.overs)
+        other.calls = dict(self.calls)
+        other.lasts = dict(self.lasts)
+        return other
 
     def take_bases(self, item):
         """Take a class whose bases are valid, as far as these alone matter."""
@@ -29,11 +45,11 @@ class Family:
         self.nears[name] = near_of(self, item)
         self.classes[name] = item
 
-    def take_methods(self, item):
-        """Take the methods of a class that was taken with its bases."""
+    def take_methods(self, item, news):
+        """Take the methods of a class that was taken with its bases, and that introduces those of these names."""
         name = item.name
         self.own[name] = {method.name: method for method in item.methods}
-        self.news[name] = introduced_by(self, item)
+        self.news[name] = news
         self.calls[name] = introducers_of(self, name)
         self.lasts[name] = {(owner, method): last_override_of(self, name, owner, method)
                             for owner, method in self.calls[name]}
@@ -41,6 +57,10 @@ class Family:
     def line(self, name):
         """Return the names of the ancestors of a class, in order, and its own."""
         return self.above[name] + [name]
+
+    def has_table(self, name):
+        """Tell whether a class is open: whether it has a shared ancestor, or a method that was introduced."""
+        return len(self.walks[name]) > 0 or len(self.calls[name]) > 0
 
 
 def ancestors_of(family, item):
@@ -94,22 +114,43 @@ def do_agree(member, other):
     return forms_of(member) == forms_of(other)
 
 
-def do_names_agree(family, name):
-    """Tell whether each name of a member of a class and its ancestors is declared as often as it may be."""
+def members_of(family, owner, hidden):
+    """Return the list of the members of a class whose names count: all, or those that a client may name."""
+    item = family.classes[owner]
+    if hidden or owner in family.overs:
+        return list(item.fields + item.methods)
+    # the mark of a method that was introduced is the one where it was introduced
+    methods = [method for method in item.methods if method.kind == "plain" or method.name in family.news[owner]]
+    return [member for member in [*item.fields, *methods] if member.shown]
+
+
+def do_names_agree(family, name, hidden):
+    """Tell whether each name that counts in a class and its ancestors is declared as often as it may be."""
     known = {}
     for owner in family.line(name):
-        item = family.classes[owner]
-        for member in item.fields + item.methods:
+        for member in members_of(family, owner, hidden):
             if member.name in known and not do_agree(member, known[member.name]):
                 return False
             known[member.name] = member
     return True
 
 
-def introduced_by(family, item):
-    """Return the names of the methods that a class introduces, in its order."""
-    known = [method for name in family.above[item.name] for method in family.own[name]]
+def introduced_by(family, item, hidden):
+    """Return the names of the methods that a class introduces, in its order, by the names that count."""
+    known = [member.name for owner in family.above[item.name] for member in members_of(family, owner, hidden)]
     return [method.name for method in item.methods if method.kind != "plain" and method.name not in known]
+
+
+def named_in_library(family, name):
+    """Return the pairs (introducer, method) of the library that clients may name in the ancestors of a class."""
+    return [(owner, method) for owner in family.above[name] if owner not in family.overs
+            for method in family.news[owner] if family.own[owner][method].shown]
+
+
+def overriding(family, item):
+    """Return the names of the methods by which a class of a client overrides those of the library."""
+    known = [method for _, method in named_in_library(family, item.name)]
+    return [method.name for method in item.methods if method.kind != "plain" and method.name in known]
 
 
 def introducers_of(family, name):
@@ -120,10 +161,19 @@ def introducers_of(family, name):
     return [(owner, method) for owner in order for method in family.news[owner]]
 
 
+def does_override(family, owner, introducer, method):
+    """Tell whether a method of a class counts for what the class itself or another one introduced."""
+    if method not in family.own[owner] or introducer not in family.line(owner):
+        return False
+    if owner not in family.overs or introducer in family.overs:
+        return True
+    return (method in family.overs[owner]
+            and forms_of(family.own[owner][method]) == forms_of(family.own[introducer][method]))
+
+
 def last_override_of(family, name, introducer, method):
     """Return the class of the last override in a class of what an ancestor or itself introduced, or None."""
-    rows = [owner for owner in family.line(name)
-            if method in family.own[owner] and introducer in family.line(owner)]
+    rows = [owner for owner in family.line(name) if does_override(family, owner, introducer, method)]
     # each class stands behind its ancestors, so only the last one can derive from all others
     last = rows[-1]
     if all([owner in family.line(last) for owner in rows]):
@@ -137,15 +187,21 @@ def is_bare_class(family, name):
     return any([family.own[lasts[owner, method]][method].body is None for owner, method in lasts])
 
 
+def may_name(family, owner, member, hidden):
+    """Tell whether a member may be named: it is shown, or what is hidden counts, or the client itself has it."""
+    return hidden or member.shown or owner in family.overs
+
+
 def found_in(family, name, member, hidden):
     """Return the thing that a name means, seen from a class, with or without what is hidden; None if nothing."""
     for owner, method in family.calls[name]:
-        if method == member and (hidden or family.own[owner][method].shown):
+        if method == member and may_name(family, owner, family.own[owner][method], hidden):
             return ("open", owner, member)
     for owner in family.line(name):
         item = family.classes[owner]
-        fields = [field for field in item.fields if hidden or field.shown]
-        plains = [method for method in item.methods if method.kind == "plain" and (hidden or method.shown)]
+        fields = [field for field in item.fields if may_name(family, owner, field, hidden)]
+        plains = [method for method in item.methods
+                  if method.kind == "plain" and may_name(family, owner, method, hidden)]
         if member in [field.name for field in fields]:
             return ("field", owner, member)
         if member in [method.name for method in plains]:

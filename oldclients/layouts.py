@@ -5,11 +5,10 @@ from oldclients.parts import WholeObject, near_parts
 from oldclients.tables import is_same, reaches_of, shapes_of, tables_of
 
 
-def numbers_of(library, name, parts, shapes):
+def numbers_of(library, name, parts, shapes, whole):
     """Return all numbers and tables of a class, by what they are."""
     part = parts[name]
     entries, ways = shapes[name]
-    whole = WholeObject(part, [parts[shared] for shared in library.walk(name)])
     return {
         "near size": part.size, "alignment": part.align, "whole size": whole.size,
         "places": whole.parts, "fields": part.fields, "pointers": whole.heads,
@@ -19,12 +18,17 @@ def numbers_of(library, name, parts, shapes):
 
 
 class Layout:
-    """The places, sizes and tables of all classes of a library."""
+    """The places, sizes and tables of all classes of a library, or of a world (a library and a client)."""
 
     def __init__(self, library):
         parts = near_parts(library)
         shapes = shapes_of(library, parts)
-        self._numbers = {name: numbers_of(library, name, parts, shapes) for name in library.names()}
+        self._numbers = {}
+        self._starts = {}
+        for name in library.names():
+            whole = WholeObject(parts[name], [parts[shared] for shared in library.walk(name)])
+            self._numbers[name] = numbers_of(library, name, parts, shapes, whole)
+            self._starts[name] = (tuple(parts[name].bases), tuple(whole.shared))
 
     def __eq__(self, other):
         return isinstance(other, Layout) and self._numbers == other._numbers
@@ -50,6 +54,14 @@ class Layout:
         """Return the list of the pairs (class, place) of all parts of a whole object."""
         return list(self._of(name)["places"])
 
+    def starts(self, name):
+        """Return the pairs (class, place) of the plain bases of a class, and those of its walk, as two tuples."""
+        return self._starts[name]
+
+    def own_places(self, name):
+        """Return a dict from the names of the fields that a class declares to their places in its near part."""
+        return {field: place for owner, field, place in self._of(name)["fields"] if owner == name}
+
     def field_places(self, name):
         """Return the list of the tuples (class, field, place) of the fields of the near part of a class."""
         return list(self._of(name)["fields"])
@@ -68,7 +80,7 @@ class Layout:
     def field_reach(self, name, owner, field):
         """Return how a field that an ancestor declares is found from the part of a class."""
         *way, start = self.reach(name, owner)
-        own = {known: place for declarer, known, place in self._of(owner)["fields"] if declarer == owner}
+        own = self.own_places(owner)
         if not isinstance(field, str) or field not in own:
             raise NoMember(field)
         return (*way, start + own[field])

@@ -33,6 +33,10 @@ class Library:
             raise NoClass(name)
         return name
 
+    def copied_family(self):
+        """Return the Family of the classes, a copy to which the classes of a client can be added."""
+        return self._family.copied()
+
     def names(self):
         """Return the list of the names of the classes."""
         return list(self._family.classes)
@@ -59,8 +63,7 @@ class Library:
 
     def is_open(self, name):
         """Return whether a class has a table: whether it has a shared ancestor, or a method that was introduced."""
-        own = self._known(name)
-        return len(self._family.walks[own]) > 0 or len(self._family.calls[own]) > 0
+        return self._family.has_table(self._known(name))
 
     def introducers(self, name):
         """Return the list of the pairs (class, method) that a class and its ancestors introduced."""

@@ -10,8 +10,8 @@ class NearPart:
     """The near part of a class: all that is laid out from its beginning, place 0.
 
     headed: whether it begins with a table pointer; primary: the name of the primary base, or None;
-    size, align: the near size and the alignment; parts: pairs (class, place); fields: tuples
-    (class, field, place); heads: pairs (class, place) of the table pointers.
+    size, align: the near size and the alignment; parts: pairs (class, place); bases: those of the plain bases
+    alone; fields: tuples (class, field, place); heads: pairs (class, place) of the table pointers.
     """
 
     def __init__(self, name, headed, primary):
@@ -21,11 +21,13 @@ class NearPart:
         self.size = 0
         self.align = 1
         self.parts = [(name, 0)]
+        self.bases = []
         self.fields = []
         self.heads = [(name, 0)] if headed else []
 
     def put_base(self, base, place):
         """Put the near part of a plain base at a place."""
+        self.bases = self.bases + [(base.name, place)]
         self.parts = self.parts + moved(base.parts, place)
         self.fields = self.fields + [(owner, field, place + at) for owner, field, at in base.fields]
         # of the bases only the primary one can begin at 0, and its pointer there is that of the class
@@ -51,6 +53,14 @@ def rounded_up(place, by):
 def moved(pairs, by):
     """Return pairs (class, place) for a part that lies so much further on."""
     return [(name, place + by) for name, place in pairs]
+
+
+def first_places(pairs):
+    """Return a dict from the classes of pairs (class, place) to the first place of each.
+
+    Only a client's class has more of one class, with a later version of the library.
+    """
+    return {name: place for name, place in reversed(list(pairs))}
 
 
 def primary_of(bases):
@@ -99,14 +109,19 @@ def near_parts(library):
 
 
 class WholeObject:
-    """Where everything lies in an object: size, parts and heads as in a near part, with the shared ancestors."""
+    """Where everything lies in an object: size, parts and heads as in a near part, with the shared ancestors.
+
+    shared: pairs (class, place) of these ancestors.
+    """
 
     def __init__(self, part, shared):
+        self.shared = []
         self.parts = part.parts
         self.heads = part.heads
         end = part.size
         for ancestor in shared:
             place = rounded_up(end, SHARED_ALIGNMENT)
+            self.shared = self.shared + [(ancestor.name, place)]
             self.parts = self.parts + moved(ancestor.parts, place)
             self.heads = self.heads + moved(ancestor.heads, place)
             end = place + ancestor.size

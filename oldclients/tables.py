@@ -1,6 +1,7 @@
 """The shapes of tables, what is found by them, and the tables of whole objects (points 16 to 18)."""
 
 from oldclients.forms import is_integer
+from oldclients.parts import first_places
 
 FIRST_WAY = -3
 
@@ -25,23 +26,27 @@ def shapes_of(library, parts):
 
 def reaches_of(part, ways, parts):
     """Return how each part of an object is found from that of the class itself, by the names of their classes."""
-    reaches = {name: ("place", place) for name, place in part.parts}
+    reaches = {name: ("place", place) for name, place in first_places(part.parts).items()}
     for index, shared in enumerate(ways):
-        for name, place in parts[shared].parts:
-            reaches[name] = ("way", FIRST_WAY - index, place)
+        for name, place in first_places(parts[shared].parts).items():
+            reaches.setdefault(name, ("way", FIRST_WAY - index, place))
     return reaches
 
 
 def tables_of(library, name, whole, shapes):
-    """Return the tables of a class in the order of the pointers of its whole object."""
-    places = dict(whole.parts)
+    """Return the tables of a class in the order of the pointers of its whole object.
+
+    A last override is missing (None, with the shift 0) in classes of clients alone, with a later version.
+    """
+    places = first_places(whole.parts)
     tables = []
     for owner, at in whole.heads:
         entries, ways = shapes[owner]
         methods = []
         for introducer, method in entries:
             last = library.last_override(name, introducer, method)
-            methods.append(((introducer, method), last, places[last] - at))
+            shift = 0 if last is None else places[last] - at
+            methods.append(((introducer, method), last, shift))
         shifts = tuple([(shared, places[shared] - at) for shared in ways])
         tables.append((owner, at, shifts, tuple(methods)))
     return tables

@@ -1,5 +1,6 @@
 """What several tests need: short ways to declare things, the diamond, and values of wrong kinds."""
 
+from oldclients.clients import Client, Resolved
 from oldclients.declared import Body, Class, Field, Method, Routine
 from oldclients.errors import OldError
 from oldclients.libraries import Library
@@ -119,3 +120,36 @@ def refused(classes, *more):
     error = raised(Library, classes, *more)
     assert error is None or error[0] == "NoLibrary", error
     return error and error[1:]
+
+
+def base_library():
+    """Return the library `lib` of the document."""
+    n_of = Method("f", "open", (), "int4", Body((("i", "int4"),), (("get", "i", "this", "n"), ("return", "i"))))
+    base = Class("Base", (), (Field("n", "int4", 5),), (n_of,))
+    return Library([base, Class("Leaf", (("Base", "plain"),), (Field("m", "int1"),))])
+
+
+MINE_STEPS = (("new", "x", "mine"), ("call", "i", "x", "f", ()), ("say", "i"))
+
+
+def mine_client():
+    """Return the client of the document, ahead of being resolved."""
+    seven = Method("f", "open", (), "int4", Body((), (("return", 7),)))
+    mine = Class("mine", (("Leaf", "plain"),), (Field("k", "int2"),), (seven,))
+    return Client([mine], (("x", "Base"), ("i", "int4")), MINE_STEPS)
+
+
+def mine_resolved():
+    """Return the resolved client `cl` of the document."""
+    return Resolved(mine_client(), base_library())
+
+
+def doing(name, steps, variables=(), params=(), result=None, kind="open", shown=True):
+    """Return a method with a body of statements."""
+    return Method(name, kind, params, result, Body(tuple(variables), tuple(steps)), shown)
+
+
+def main(variables, *steps, classes=()):
+    """Return a client from its main variables as "x:A i:int4", its statements and its classes."""
+    pairs = tuple(tuple(pair.split(":")) for pair in variables.split())
+    return Client(list(classes), pairs, tuple(steps))

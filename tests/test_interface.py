@@ -16,6 +16,10 @@ INTERFACE = {
     },
     "libraries": {"Library": "(classes, routines=())"},
     "layouts": {"Layout": "(library)", "check_tables": "(layout, name, tables)"},
+    "memory": {"owners": "(library, name)", "Memory": "(library)"},
+    "bodies": {"check_bodies": "(library)"},
+    "clients": {"Client": "(classes, variables=(), steps=())", "Resolved": "(client, library)"},
+    "compiler": {"needs": "(resolved)", "lacking": "(resolved, library)", "Code": "(resolved, library=None)"},
 }
 METHODS = {
     ("libraries", "Library"): {
@@ -30,11 +34,19 @@ METHODS = {
         "reach": "(self, name, ancestor)", "field_reach": "(self, name, owner, field)", "entries": "(self, name)",
         "ways": "(self, name)", "method_number": "(self, introducer, method)", "tables": "(self, name)",
     },
+    ("memory", "Memory"): {
+        "make": "(self, name)", "end": "(self)", "objects": "(self)", "load": "(self, place, size)",
+        "is_part": "(self, place, name)", "move": "(self, place, name, ancestor)",
+        "cast": "(self, place, name, other)", "get": "(self, place, name, owner, field)",
+        "put": "(self, place, name, owner, field, number)", "owner_at": "(self, place)",
+    },
+    ("clients", "Resolved"): {"found": "(self, name, member)", "statements": "(self, where)"},
 }
 SIGNS = {
     ("declared", "Field"): ["__eq__"], ("declared", "Body"): ["__eq__"], ("declared", "Method"): ["__eq__"],
     ("declared", "Class"): ["__eq__"], ("declared", "Routine"): ["__eq__"],
     ("libraries", "Library"): ["__eq__", "__getitem__", "__contains__"], ("layouts", "Layout"): ["__eq__"],
+    ("clients", "Client"): ["__eq__"], ("clients", "Resolved"): ["__eq__"], ("compiler", "Code"): ["__eq__"],
 }
 
 
