@@ -1,5 +1,6 @@
 """The code of bodies (points 31 and 32)."""
 
+from oldclients.flattening import flat_rows
 from oldclients.forms import REFERENCE_SIZE, SIZES, form_size
 from oldclients.uses import form_of_field
 
@@ -136,58 +137,29 @@ def put_return(row, step):
     row.deeds.append(("return", value))
 
 
+def put_jump(row, step):
+    """Put a test, or the jump behind some steps."""
+    row.deeds.append(step)
+
+
 DEEDS = {
     "set": put_set, "add": put_sum, "less": put_sum, "new": put_new, "get": put_get, "put": put_put,
     "call": put_call, "do": put_do, "cast": put_cast, "say": put_say, "return": put_return,
+    "if": put_jump, "goto": put_jump,
 }
 
 
 def row_of(step, scope, layout):
-    """Return the row of a statement that is no if and no while."""
+    """Return the row of a statement."""
     row = Row(scope, layout)
     deed = DEEDS[step[0]]
     deed(row, step)
     return tuple(row.deeds)
 
 
-def put_rows(steps, rows, scope, layout):
-    """Put the rows of statements behind others; rows go on with others by their numbers."""
-    for step in steps:
-        if step[0] == "if":
-            put_if(step, rows, scope, layout)
-        elif step[0] == "while":
-            put_while(step, rows, scope, layout)
-        else:
-            rows.append(row_of(step, scope, layout))
-
-
-def put_if(step, rows, scope, layout):
-    """Put the row of the test, the first steps, a row that leads behind all, and the other steps."""
-    _, test, first, second = step
-    head = len(rows)
-    rows.append(())
-    put_rows(first, rows, scope, layout)
-    jump = len(rows)
-    rows.append(())
-    put_rows(second, rows, scope, layout)
-    rows[head] = (("if", test, jump + 1),)
-    rows[jump] = (("goto", len(rows)),)
-
-
-def put_while(step, rows, scope, layout):
-    """Put the row of the test, the steps, and a row that leads back to the test."""
-    _, test, inner = step
-    head = len(rows)
-    rows.append(())
-    put_rows(inner, rows, scope, layout)
-    rows.append((("goto", head),))
-    rows[head] = (("if", test, len(rows)),)
-
-
 def body_code(script, layout):
     """Return the code of a body: (params, size of the result, rows)."""
-    rows = []
-    put_rows(script.steps, rows, script.scope, layout)
+    rows = [row_of(step, script.scope, layout) for step in flat_rows(script.steps)]
     result = script.scope.result
     params = tuple([(name, form_size(form)) for name, form in script.params])
     return (params, REFERENCE_SIZE if result is None else form_size(result), tuple(rows))

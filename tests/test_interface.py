@@ -20,6 +20,13 @@ INTERFACE = {
     "bodies": {"check_bodies": "(library)"},
     "clients": {"Client": "(classes, variables=(), steps=())", "Resolved": "(client, library)"},
     "compiler": {"needs": "(resolved)", "lacking": "(resolved, library)", "Code": "(resolved, library=None)"},
+    "plain": {"plain_run": "(resolved, library=None, *, most=1000)"},
+    "machine": {"Build": "(library)", "run_code": "(code, build, *, most=1000)"},
+    "stepping": {
+        "plain_events": "(resolved, library=None, *, most=1000)", "code_events": "(code, build, *, most=1000)",
+        "out_of_step": "(resolved, code, build, *, most=1000)",
+    },
+    "exposed": {"exposed": "(library)", "unlike": "(old, new)", "probes": "(library, need)"},
 }
 METHODS = {
     ("libraries", "Library"): {
@@ -47,6 +54,7 @@ SIGNS = {
     ("declared", "Class"): ["__eq__"], ("declared", "Routine"): ["__eq__"],
     ("libraries", "Library"): ["__eq__", "__getitem__", "__contains__"], ("layouts", "Layout"): ["__eq__"],
     ("clients", "Client"): ["__eq__"], ("clients", "Resolved"): ["__eq__"], ("compiler", "Code"): ["__eq__"],
+    ("machine", "Build"): ["__eq__"],
 }
 
 
