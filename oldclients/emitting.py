@@ -133,8 +133,7 @@ def put_say(row, step):
 
 def put_return(row, step):
     """Put the instructions of a return; without a result it returns 0."""
-    value = 0 if step[1] is None else row.operand(step[1], row.scope.result)
-    row.deeds.append(("return", value))
+    row.deeds.append(("return", row.operand(step[1], row.scope.result)))
 
 
 def put_jump(row, step):

@@ -96,7 +96,8 @@ class PlainRun:
     def leave(self, value):
         """End the body that is executed; what called it gets the value, None where there is none."""
         form = self.active.pop().script.scope.result
-        if self.active and form is not None:
+        # main has no result, so that there is a caller
+        if form is not None:
             caller = self.active[-1]
             caller.give(caller.answer, first_value(form) if value is None else fitted(value, form))
 

@@ -85,8 +85,6 @@ def base_needs(resolved):
 
 def reach_needs(world, name, ancestor):
     """Return the needs for going from a reference to a class to the part of an ancestor of it, or of itself."""
-    if world.is_clients(ancestor):
-        return []
     starts = [owner for owner in world.line(name) if not world.is_clients(owner)] if world.is_clients(name) else [name]
     return [("reach", start, ancestor) for start in starts if start != ancestor and world.derives(start, ancestor)]
 

@@ -44,7 +44,7 @@ def gifts_or_none(scope, step):
         case "do":
             return called(scope, step[1], step[3], scope.world.routine(step[2]))
         case "return":
-            return [] if step[1] is None else [given(scope, step[1], scope.result)]
+            return [given(scope, step[1], scope.result)]
     return []
 
 

@@ -8,12 +8,16 @@ class Slow:
 
     def __init__(self, classes):
         self.classes = {item.name: item for item in classes}
+        self.above = {name: [other for other in self.classes if self.does_derive(name, other)] for name in self.classes}
+
+    def does_derive(self, name, ancestor):
+        return any(base == ancestor or self.does_derive(base, ancestor) for base, _ in self.classes[name].bases)
 
     def derives(self, name, ancestor):
-        return any(base == ancestor or self.derives(base, ancestor) for base, _ in self.classes[name].bases)
+        return ancestor in self.above[name]
 
     def ancestors(self, name):
-        return [other for other in self.classes if self.derives(name, other)]
+        return self.above[name]
 
     def family(self, name):
         return [name] + self.ancestors(name)
