@@ -9,12 +9,16 @@ from oldclients.needing import offered
 from oldclients.tables import is_same
 
 
+def table_numbers(table):
+    """Return what is exposed of a table: (place, ways, pairs of the class of a last override and its name)."""
+    _, place, ways, methods = table
+    return (place, ways, tuple([(last, pair[1]) for pair, last, _ in methods]))
+
+
 def derive_numbers(layout, name):
     """Return the numbers that a client has of a class from which it derives."""
-    tables = [(place, ways, tuple([(last, method) for (_, method), last, _ in methods]))
-              for _, place, ways, methods in layout.tables(name)]
-    return (layout.near_size(name), layout.alignment(name), layout.whole_size(name), tuple(layout.places(name)),
-            tuple(tables))
+    tables = tuple([table_numbers(table) for table in layout.tables(name)])
+    return (layout.near_size(name), layout.alignment(name), layout.whole_size(name), tuple(layout.places(name)), tables)
 
 
 def numbers_of_need(layout, need):

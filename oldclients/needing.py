@@ -84,7 +84,10 @@ def base_needs(resolved):
 
 
 def reach_needs(world, name, ancestor):
-    """Return the needs for going from a reference to a class to the part of an ancestor of it, or of itself."""
+    """Return the needs for going from a reference to a class to the part of an ancestor of it, or of itself.
+
+    No class of the library derives from one of the client, so that parts of the client's own classes need nothing.
+    """
     starts = [owner for owner in world.line(name) if not world.is_clients(owner)] if world.is_clients(name) else [name]
     return [("reach", start, ancestor) for start in starts if start != ancestor and world.derives(start, ancestor)]
 
