@@ -6,7 +6,7 @@ from oldclients.clients import Client, Resolved
 from oldclients.compiler import Code
 from oldclients.declared import Body, Class, Field, Method, Routine
 from oldclients.libraries import Library
-from tests.helpers import (Bag, bare, base_library, doing, main, mine_client, mine_resolved, opened, own, plain, raised,
+from tests.helpers import (Bag, bare, base_library, main, mine_client, mine_resolved, opened, own, plain, raised,
                            strangers)
 
 A = Class("A", (), (Field("a", "int4"), Field("q", "A"), Field("w", "B"), Field("z", "int1")),

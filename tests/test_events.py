@@ -2,7 +2,7 @@
 
 import unittest
 
-from oldclients.clients import Client, Resolved
+from oldclients.clients import Resolved
 from oldclients.compiler import Code
 from oldclients.declared import Body, Class, Field, Routine
 from oldclients.libraries import Library
@@ -288,7 +288,6 @@ class OutOfStep(unittest.TestCase):
         self.assertIsNone(out_of_step(client, Code(client), Build(one)))
         self.assertIsNone(out_of_step(client, Code(client), Build(other)))
         self.assertEqual(code_events(Code(client), Build(other))[2], ("say", 2))
-        self.assertEqual(Resolved(Client([]), one), Resolved(Client([]), one))
 
 
 if __name__ == "__main__":

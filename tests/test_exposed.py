@@ -4,7 +4,7 @@ import unittest
 
 from oldclients.clients import Client, Resolved
 from oldclients.compiler import Code, lacking, needs
-from oldclients.declared import Body, Class, Field, Method, Routine
+from oldclients.declared import Body, Class, Field, Routine
 from oldclients.exposed import exposed, probes, unlike
 from oldclients.libraries import Library
 from tests.helpers import bare, base_library, diamond, oddities, opened, own, plain, raised, strangers

@@ -2,13 +2,13 @@
 
 import unittest
 
-from oldclients.clients import Client, Resolved
+from oldclients.clients import Resolved
 from oldclients.compiler import Code
-from oldclients.declared import Body, Class, Field, Method, Routine
+from oldclients.declared import Body, Class, Field, Routine
 from oldclients.libraries import Library
 from oldclients.machine import Build, run_code
 from oldclients.stepping import code_events
-from tests.helpers import (Bag, bare, base_library, diamond, doing, main, mine_resolved, opened, own, plain, raised,
+from tests.helpers import (Bag, bare, base_library, diamond, doing, main, mine_resolved, own, plain, raised,
                            strangers)
 
 

@@ -2,11 +2,11 @@
 
 import unittest
 
-from oldclients.clients import Client, Resolved
-from oldclients.declared import Body, Class, Field, Method, Routine
+from oldclients.clients import Resolved
+from oldclients.declared import Body, Class, Field, Routine
 from oldclients.libraries import Library
 from oldclients.plain import plain_run
-from tests.helpers import bare, base_library, doing, main, mine_resolved, opened, own, plain, raised
+from tests.helpers import bare, base_library, doing, main, mine_resolved, own, plain, raised
 
 LOW, HIGH = -(1 << 63), (1 << 63) - 1
 

@@ -5,7 +5,7 @@ import unittest
 
 from oldclients.clients import Client, Resolved
 from oldclients.compiler import Code, lacking, needs
-from oldclients.declared import Class, Field, Method
+from oldclients.declared import Body, Class, Field, Method
 from oldclients.libraries import Library
 from tests.helpers import raised
 from tests.slow_clients import SlowClient
@@ -28,9 +28,7 @@ def some_client_class(chance, library, mine):
         if other not in names:
             if chance.random() < 0.5:
                 return Class(name, bases, (Field(other, chance.choice(FORMS)),), methods)
-            methods += (Method(other, "plain", body=methods[0].body if methods and methods[0].body else None)
-                        if methods and methods[0].body else some_method(chance, "f") if "f" not in names else
-                        Method("x" + name, "bare"),)
+            methods += (Method(other, "plain", (), None, Body(), chance.random() < 0.5),)
     fields = tuple(Field(name + "x" + field.name[-1], field.form, 0, field.shown) for field in item.fields)
     return Class(name, bases, fields, methods)
 
