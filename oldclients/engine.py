@@ -1,13 +1,10 @@
 """The machine on which code runs (points 31 and 35 to 37)."""
 
-from oldclients.parts import POINTER_SIZE, first_places, rounded_up
+from oldclients.parts import FIRST_PIECE, PIECE_ALIGNMENT, POINTER_SIZE, first_places, rounded_up
 from oldclients.runs import MOST_CALLS, RunEnds
 from oldclients.scripts import MAIN
 from oldclients.tables import FIRST_WAY
 from oldclients.wholes import number_at, put_number, wrapped
-
-FIRST_PIECE = 8
-PIECE_ALIGNMENT = 8
 
 
 class Frame:

@@ -3,12 +3,10 @@
 from oldclients.errors import NoClass, NoPlace, NoReference
 from oldclients.forms import SIZES, form_size, is_integer
 from oldclients.layouts import Layout
-from oldclients.parts import POINTER_SIZE, rounded_up
+from oldclients.parts import FIRST_PIECE, PIECE_ALIGNMENT, POINTER_SIZE, rounded_up
 from oldclients.tables import FIRST_WAY
 from oldclients.wholes import number_at, put_number
 
-FIRST_PIECE = 8
-PIECE_ALIGNMENT = 8
 WORD_SIZES = (1, 2, 4, 8)
 GAP = ("gap", "", "")
 

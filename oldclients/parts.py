@@ -1,9 +1,11 @@
-"""Near parts and whole objects (points 13 to 15)."""
+"""Near parts, whole objects and the pieces in which they lie (points 13 to 15 and 21)."""
 
 from oldclients.forms import form_size
 
 POINTER_SIZE = 8
 SHARED_ALIGNMENT = 8
+FIRST_PIECE = 8
+PIECE_ALIGNMENT = 8
 
 
 class NearPart:
