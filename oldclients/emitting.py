@@ -1,7 +1,7 @@
 """The code of bodies (points 31 and 32)."""
 
 from oldclients.flattening import flat_rows
-from oldclients.forms import REFERENCE_SIZE, SIZES, form_size
+from oldclients.forms import REFERENCE_SIZE, is_whole, meaning_of, meaning_size
 from oldclients.uses import form_of_field
 
 
@@ -31,7 +31,7 @@ class Row:
         """Return what the deed takes for an operand; a reference that is given to another class is moved first."""
         if value is None:
             return 0
-        if wanted in SIZES or self.scope.forms[value] == wanted:
+        if is_whole(wanted) or self.scope.forms[value] == wanted:
             return value
         helper = self.helper()
         self.deeds.append(("move", helper, value, self.way(value, wanted)))
@@ -39,15 +39,15 @@ class Row:
 
     def operands(self, args, declared):
         """Return what a call takes for its arguments."""
-        return tuple([self.operand(value, form) for value, (_, form) in zip(args, declared.params)])
+        return tuple([self.operand(value, meaning_of(form)) for value, (_, form) in zip(args, declared.params)])
 
     def give(self, variable, helper, form):
-        """Set a variable, unless it is None, from a helping variable in which something of a form is."""
+        """Set a variable, unless it is None, from a helping variable in which something is that a form means."""
         if variable is None:
             return
         wanted = self.scope.forms[variable]
-        if form in SIZES or form == wanted:
-            self.deeds.append(("set", variable, helper, form_size(wanted)))
+        if is_whole(form) or form == wanted:
+            self.deeds.append(("set", variable, helper, meaning_size(wanted)))
         else:
             self.deeds.append(("move", variable, helper, self.layout.reach(form, wanted)))
 
@@ -58,8 +58,8 @@ def put_set(row, step):
     form = row.scope.forms[variable]
     if value is None:
         row.deeds.append(("set", variable, 0, REFERENCE_SIZE))
-    elif form in SIZES or row.scope.forms[value] == form:
-        row.deeds.append(("set", variable, value, form_size(form)))
+    elif is_whole(form) or row.scope.forms[value] == form:
+        row.deeds.append(("set", variable, value, meaning_size(form)))
     else:
         row.deeds.append(("move", variable, value, row.way(value, form)))
 
@@ -67,7 +67,7 @@ def put_set(row, step):
 def put_sum(row, step):
     """Put the instruction of an add or a less."""
     word, variable, one, other = step
-    row.deeds.append((word, variable, one, other, form_size(row.scope.forms[variable])))
+    row.deeds.append((word, variable, one, other, meaning_size(row.scope.forms[variable])))
 
 
 def put_new(row, step):
@@ -81,18 +81,18 @@ def put_new(row, step):
 def put_get(row, step):
     """Put the instructions of a get."""
     _, variable, holder, thing = step
-    form = form_of_field(row.scope, thing)
+    form = meaning_of(form_of_field(row.scope, thing))
     helper = row.helper()
-    row.deeds.append(("load", helper, holder, row.field_way(holder, thing), form_size(form)))
+    row.deeds.append(("load", helper, holder, row.field_way(holder, thing), meaning_size(form)))
     row.give(variable, helper, form)
 
 
 def put_put(row, step):
     """Put the instructions of a put."""
     _, holder, thing, value = step
-    form = form_of_field(row.scope, thing)
+    form = meaning_of(form_of_field(row.scope, thing))
     operand = row.operand(value, form)
-    row.deeds.append(("store", holder, row.field_way(holder, thing), form_size(form), operand))
+    row.deeds.append(("store", holder, row.field_way(holder, thing), meaning_size(form), operand))
 
 
 def put_call(row, step):
@@ -107,7 +107,7 @@ def put_call(row, step):
         row.deeds.append(("call", helper, holder, way, row.layout.method_number(owner, name), operands))
     else:
         row.deeds.append(("link", helper, holder, way, (owner, name), operands))
-    row.give(variable, helper, method.result)
+    row.give(variable, helper, meaning_of(method.result))
 
 
 def put_do(row, step):
@@ -117,7 +117,7 @@ def put_do(row, step):
     operands = row.operands(args, routine)
     helper = row.helper()
     row.deeds.append(("do", helper, name, operands))
-    row.give(variable, helper, routine.result)
+    row.give(variable, helper, meaning_of(routine.result))
 
 
 def put_cast(row, step):
@@ -160,5 +160,5 @@ def body_code(script, layout):
     """Return the code of a body: (params, size of the result, rows)."""
     rows = [row_of(step, script.scope, layout) for step in flat_rows(script.steps)]
     result = script.scope.result
-    params = tuple([(name, form_size(form)) for name, form in script.params])
-    return (params, REFERENCE_SIZE if result is None else form_size(result), tuple(rows))
+    params = tuple([(name, meaning_size(form)) for name, form in script.params])
+    return (params, REFERENCE_SIZE if result is None else meaning_size(result), tuple(rows))

@@ -44,6 +44,24 @@ def form_size(form):
     return SIZES.get(form, REFERENCE_SIZE)
 
 
+def meaning_of(form):
+    """Return what a form means where it stands: the size of a whole number, or the name of a class; None stays None.
+
+    A class of a client may have the name of a whole number, which means the class wherever no form stands.
+    """
+    return SIZES.get(form, form)
+
+
+def is_whole(meaning):
+    """Tell whether a whole number is meant, and no class."""
+    return isinstance(meaning, int)
+
+
+def meaning_size(meaning):
+    """Return the number of bytes that what is meant takes."""
+    return meaning if is_whole(meaning) else REFERENCE_SIZE
+
+
 def is_start(value, form):
     """Tell whether a field of this form can have this value in a new object."""
     if not is_integer(value):

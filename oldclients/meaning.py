@@ -1,7 +1,7 @@
 """Runs of clients by the plain meaning of their statements (points 26, 30 and 38)."""
 
 from oldclients.flattening import flat_rows
-from oldclients.forms import SIZES, form_size
+from oldclients.forms import is_whole, meaning_of, meaning_size
 from oldclients.runs import MOST_CALLS, RunEnds
 from oldclients.scripts import MAIN, script_of
 from oldclients.wholes import wrapped
@@ -30,7 +30,7 @@ class Activation:
         self.answer = None
 
     def form_of(self, variable):
-        """Return the form of a variable."""
+        """Return what the form of a variable means."""
         return self.script.scope.forms[variable]
 
     def value(self, operand):
@@ -44,13 +44,13 @@ class Activation:
 
 
 def first_value(form):
-    """Return the value of a variable of a form at first."""
-    return 0 if form in SIZES else None
+    """Return the value of a variable at first, by what its form means."""
+    return 0 if is_whole(form) else None
 
 
 def fitted(value, form):
-    """Return a value as what has a form keeps it."""
-    return wrapped(value, form_size(form)) if form in SIZES else value
+    """Return a value as it is kept where a form means this."""
+    return wrapped(value, meaning_size(form)) if is_whole(form) else value
 
 
 class PlainRun:
@@ -151,7 +151,7 @@ def do_less(run, frame, step):
 def do_new(run, frame, step):
     """Make an object."""
     _, variable, name = step
-    held = {(owner, field.name): field.start if field.form in SIZES else None
+    held = {(owner, field.name): field.start if is_whole(meaning_of(field.form)) else None
             for owner in run.world.line(name) for field in run.world.item(owner).fields}
     run.events.append(("new", name))
     run.things.append(Thing(name, held))
@@ -179,7 +179,7 @@ def do_put(run, frame, step):
     _, holder, (_, owner, name), value = step
     number = holder_of(frame, holder)
     run.events.append(("put", number, owner, name))
-    form = run.world.field(owner, name).form
+    form = meaning_of(run.world.field(owner, name).form)
     run.things[number].held[owner, name] = fitted(frame.value(value), form)
 
 
@@ -227,7 +227,7 @@ def do_test(run, frame, step):
 
 def frame_has_number(frame, operand):
     """Tell whether an operand is a number; the first object has the number 0, too, and is not null."""
-    return not isinstance(operand, str) or frame.form_of(operand) in SIZES
+    return not isinstance(operand, str) or is_whole(frame.form_of(operand))
 
 
 def do_return(run, frame, step):

@@ -1,6 +1,7 @@
 """Bodies whose statements were checked, with things in the place of member names (points 26, 27 and 29)."""
 
 from oldclients.errors import NoBody
+from oldclients.forms import meaning_of
 from oldclients.statements import Scope, resolved_statement
 
 MOST_STATEMENTS = 40
@@ -9,7 +10,10 @@ MAIN = ("", "")
 
 
 class Script:
-    """A body that was checked: its place, parameters and result, what it sees, and its statements with things."""
+    """A body that was checked: its place, its parameters with what their forms mean, what it sees, its statements.
+
+    The statements have things in the place of member names.
+    """
 
     def __init__(self, where, params, scope, steps):
         self.where = where
@@ -49,15 +53,15 @@ def script_of(world, where, owner, declared):
     """Return the script of a method of a class, or of a routine (owner is None); raise NoBody if it is invalid."""
     forms = {} if owner is None else {"this": owner}
     for name, form in declared.params + declared.body.variables:
-        forms[name] = form
-    scope = Scope(world, forms, declared.result)
+        forms[name] = meaning_of(form)
+    scope = Scope(world, forms, meaning_of(declared.result))
     steps = Checker(where, scope).resolved(declared.body.steps, 0)
-    return Script(where, declared.params, scope, steps)
+    return Script(where, tuple([(name, forms[name]) for name, _ in declared.params]), scope, steps)
 
 
 def main_script(world, client):
     """Return the script of the main routine of a client; raise NoBody if it is invalid."""
-    scope = Scope(world, dict(client.variables), None)
+    scope = Scope(world, {name: meaning_of(form) for name, form in client.variables}, None)
     return Script(MAIN, (), scope, Checker(MAIN, scope).resolved(client.steps, 0))
 
 

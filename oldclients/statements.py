@@ -1,13 +1,16 @@
 """Which statements are valid, and what their member names mean (point 26)."""
 
-from oldclients.forms import SIZES, is_integer
+from oldclients.forms import is_integer, is_whole, meaning_of
 
 LEAST_NUMBER = -(1 << 63)
 MOST_NUMBER = (1 << 63) - 1
 
 
 class Scope:
-    """What a body sees: a world, the forms of its variables by their names, and the form of its result, or None."""
+    """What a body sees: a world, what the forms of its variables mean by their names, and that of its result, or None.
+
+    All forms here are what they mean: so `this` is a reference, whatever its class is called.
+    """
 
     def __init__(self, world, forms, result):
         self.world = world
@@ -24,7 +27,7 @@ class Scope:
 
     def class_of(self, value):
         """Return the class to which a variable refers, None if a value is no variable for references."""
-        if not self.is_variable(value) or self.forms[value] in SIZES:
+        if not self.is_variable(value) or is_whole(self.forms[value]):
             return None
         return self.forms[value]
 
@@ -32,17 +35,17 @@ class Scope:
         """Tell whether a value is an operand for a number."""
         if is_integer(value):
             return LEAST_NUMBER <= value <= MOST_NUMBER
-        return self.is_variable(value) and self.forms[value] in SIZES
+        return self.is_variable(value) and is_whole(self.forms[value])
 
     def goes_into(self, form, wanted):
         """Tell whether what has a form can be given where another form, or the same one, is wanted."""
-        if form in SIZES or wanted in SIZES:
-            return form in SIZES and wanted in SIZES
+        if is_whole(form) or is_whole(wanted):
+            return is_whole(form) and is_whole(wanted)
         return self.world.derives(form, wanted)
 
     def fits(self, value, wanted):
         """Tell whether a value is an operand that can be given where a form is wanted."""
-        if wanted in SIZES:
+        if is_whole(wanted):
             return self.is_number(value)
         if value is None:
             return True
@@ -64,9 +67,9 @@ class Scope:
         """Tell whether a call has operands for the parameters, and a variable for the result, or None."""
         if not isinstance(args, tuple) or len(args) != len(params):
             return False
-        if not all([self.fits(value, form) for value, (_, form) in zip(args, params)]):
+        if not all([self.fits(value, meaning_of(form)) for value, (_, form) in zip(args, params)]):
             return False
-        return variable is None or (result is not None and self.takes(variable, result))
+        return variable is None or (result is not None and self.takes(variable, meaning_of(result)))
 
 
 def resolved_set(scope, step):
@@ -93,7 +96,7 @@ def resolved_get(scope, step):
     """Return a valid ("get", x, y, member) with the thing in the place of the member."""
     word, variable, holder, member = step
     thing = scope.thing(holder, member, ("field",))
-    if thing is None or not scope.takes(variable, scope.world.field(thing[1], thing[2]).form):
+    if thing is None or not scope.takes(variable, meaning_of(scope.world.field(thing[1], thing[2]).form)):
         return None
     return (word, variable, holder, thing)
 
@@ -102,7 +105,7 @@ def resolved_put(scope, step):
     """Return a valid ("put", y, member, a) with the thing in the place of the member."""
     word, holder, member, value = step
     thing = scope.thing(holder, member, ("field",))
-    if thing is None or not scope.fits(value, scope.world.field(thing[1], thing[2]).form):
+    if thing is None or not scope.fits(value, meaning_of(scope.world.field(thing[1], thing[2]).form)):
         return None
     return (word, holder, thing, value)
 

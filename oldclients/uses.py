@@ -1,26 +1,26 @@
 """What statements give to which classes, and which members they use (points 30 and 32)."""
 
-from oldclients.forms import SIZES
+from oldclients.forms import is_whole, meaning_of
 
 
 def given(scope, value, wanted):
     """Return the pair (class of a reference, class where it is given) for an operand; None for null and numbers."""
-    if wanted in SIZES or value is None:
+    if is_whole(wanted) or value is None:
         return None
     return scope.forms[value], wanted
 
 
 def answered(scope, variable, form):
-    """Return the pair of classes for a variable, or None, that is set to what has a form; None if there is none."""
-    if variable is None or form in SIZES:
+    """Return the pair of classes for a variable, or None, that is set to what a form means; None if there is none."""
+    if variable is None or is_whole(form):
         return None
     return form, scope.forms[variable]
 
 
 def called(scope, variable, args, declared):
     """Return the pairs of classes for the arguments and the result of a method or routine."""
-    rows = [given(scope, value, form) for value, (_, form) in zip(args, declared.params)]
-    return rows + [answered(scope, variable, declared.result)]
+    rows = [given(scope, value, meaning_of(form)) for value, (_, form) in zip(args, declared.params)]
+    return rows + [answered(scope, variable, meaning_of(declared.result))]
 
 
 def form_of_field(scope, thing):
@@ -36,9 +36,9 @@ def gifts_or_none(scope, step):
         case "new":
             return [answered(scope, step[1], step[2])]
         case "get":
-            return [answered(scope, step[1], form_of_field(scope, step[3]))]
+            return [answered(scope, step[1], meaning_of(form_of_field(scope, step[3])))]
         case "put":
-            return [given(scope, step[3], form_of_field(scope, step[2]))]
+            return [given(scope, step[3], meaning_of(form_of_field(scope, step[2])))]
         case "call":
             return called(scope, step[1], step[4], scope.world.method(step[3][1], step[3][2]))
         case "do":
