@@ -27,6 +27,16 @@ INTERFACE = {
         "out_of_step": "(resolved, code, build, *, most=1000)",
     },
     "exposed": {"exposed": "(library)", "unlike": "(old, new)", "probes": "(library, need)"},
+    "harming": {"dangers": "(old, new)", "dangers_for": "(resolved, new)"},
+    "room": {
+        "holes": "(library, name)", "blocks": "(library, name)", "least_near_size": "(library, name)",
+        "least_order": "(library, name)", "room": "(library, name, forms)",
+    },
+    "widening": {"widened": "(library, name, fields)"},
+    "anew": {
+        "accepted": "(resolved, library)", "unaccepted": "(old, new)", "way_on": "(resolved, library)",
+        "kind_of_change": "(old, new)",
+    },
 }
 METHODS = {
     ("libraries", "Library"): {
