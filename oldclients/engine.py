@@ -72,6 +72,17 @@ class Machine:
         while self.ended is None:
             self.advance()
 
+    def take_turn(self, pace):
+        """Execute at most so many statements, and what belongs to them."""
+        goal = self.count + pace
+        while self.ended is None and (self.count < goal or not self.is_at_statement()):
+            self.advance()
+
+    def is_at_statement(self):
+        """Tell whether the next instruction begins a statement that is counted."""
+        frame = self.active[-1]
+        return frame.row < len(frame.rows) and frame.at == 0 and frame.rows[frame.row][0][0] != "goto"
+
     def advance(self):
         """Execute the next instruction, or end the run."""
         try:
@@ -86,12 +97,12 @@ class Machine:
         if frame.row == len(frame.rows):
             self.leave(0)
             return
-        row = frame.rows[frame.row]
-        deed = row[frame.at]
-        if frame.at == 0 and deed[0] != "goto":
+        if self.is_at_statement():
             if self.count >= self.most:
                 raise RunEnds("steps")
             self.count += 1
+        row = frame.rows[frame.row]
+        deed = row[frame.at]
         frame.at += 1
         if frame.at == len(row):
             frame.jump(frame.row + 1)

@@ -41,13 +41,18 @@ def exposed(library):
     return [(need, numbers_of_need(layout, need)) for need in offered(library)]
 
 
-def unlike(old, new):
-    """Return the first pair that is exposed by a library and not by another one, or None."""
-    others = dict(exposed(new))
-    for need, numbers in exposed(old):
-        if need not in others or others[need] != numbers:
+def first_unlike(pairs, others):
+    """Return the first of the exposed pairs of a library that is not one of those of another one, or None."""
+    known = dict(others)
+    for need, numbers in pairs:
+        if need not in known or known[need] != numbers:
             return need, numbers
     return None
+
+
+def unlike(old, new):
+    """Return the first pair that is exposed by a library and not by another one, or None."""
+    return first_unlike(exposed(old), exposed(new))
 
 
 def free_name(library, name):

@@ -1,6 +1,7 @@
 """New hidden fields that leave all clients alike (point 53)."""
 
 from oldclients.checking import MOST_FIELDS
+from oldclients.choosing import subsets
 from oldclients.declared import Class, Field
 from oldclients.errors import NoFields, NoLibrary, NoRoom
 from oldclients.exposed import unlike
@@ -43,12 +44,6 @@ def check_fields(library, name, fields):
             raise NoFields(index)
 
 
-def chosen(many, number):
-    """Return the pair (some of so many indexes, the others); each number below 2 to the many gives another one."""
-    some = [index for index in range(many) if number >> index & 1]
-    return some, [index for index in range(many) if index not in some]
-
-
 def least_widened(row, sizes):
     """Return the pair (end, places) for new fields of these sizes beside the old ones, which stay where they are.
 
@@ -56,8 +51,8 @@ def least_widened(row, sizes):
     their places only tell their order.
     """
     best = None
-    for number in range(1 << len(sizes)):
-        inside, behind = chosen(len(sizes), number)
+    for inside in subsets(len(sizes)):
+        behind = [index for index in range(len(sizes)) if index not in inside]
         found = places_in(row.gaps(), [sizes[index] for index in inside])
         if found is None:
             continue

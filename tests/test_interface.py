@@ -37,6 +37,19 @@ INTERFACE = {
         "accepted": "(resolved, library)", "unaccepted": "(old, new)", "way_on": "(resolved, library)",
         "kind_of_change": "(old, new)",
     },
+    "versions": {
+        "Versions": "(libraries)", "labels": "(versions)", "apart": "(versions)", "first_gap": "(versions)",
+        "running": "(versions, resolved)", "fewest_kept": "(versions, clients)",
+    },
+    "stacks": {
+        "Upper": "(classes, routines=())", "Part": "(upper, lower)", "joined": "(lower, upper)",
+        "linked": "(lower, part)", "together": "(lowers, parts)", "serving": "(lowers, parts, resolved)",
+        "best_pair": "(lowers, parts, clients)",
+    },
+    "texts": {
+        "show_library": "(library)", "show_client": "(client)", "read_library": "(text)", "read_client": "(text)",
+    },
+    "desks": {"Desk": "(library)"},
 }
 METHODS = {
     ("libraries", "Library"): {
@@ -58,13 +71,21 @@ METHODS = {
         "put": "(self, place, name, owner, field, number)", "owner_at": "(self, place)",
     },
     ("clients", "Resolved"): {"found": "(self, name, member)", "statements": "(self, where)"},
+    ("versions", "Versions"): {"libraries": "(self)", "serves": "(self, old, new)"},
+    ("stacks", "Part"): {"code": "(self)", "agrees": "(self, other)"},
+    ("desks", "Desk"): {
+        "publish": "(self, library)", "add": "(self, client)", "install": "(self, number)", "again": "(self, number)",
+        "versions": "(self)", "clients": "(self)", "installed": "(self)", "standing": "(self, number)", "out": "(self)",
+        "run": "(self, number, *, most=1000)", "by_turns": "(self, numbers, pace, *, most=1000)", "back": "(self)",
+    },
 }
 SIGNS = {
     ("declared", "Field"): ["__eq__"], ("declared", "Body"): ["__eq__"], ("declared", "Method"): ["__eq__"],
     ("declared", "Class"): ["__eq__"], ("declared", "Routine"): ["__eq__"],
     ("libraries", "Library"): ["__eq__", "__getitem__", "__contains__"], ("layouts", "Layout"): ["__eq__"],
     ("clients", "Client"): ["__eq__"], ("clients", "Resolved"): ["__eq__"], ("compiler", "Code"): ["__eq__"],
-    ("machine", "Build"): ["__eq__"],
+    ("machine", "Build"): ["__eq__"], ("versions", "Versions"): ["__eq__", "__len__"], ("stacks", "Upper"): ["__eq__"],
+    ("stacks", "Part"): ["__eq__"], ("desks", "Desk"): ["__eq__", "__len__", "__getitem__", "__contains__"],
 }
 
 

@@ -10,7 +10,7 @@ from oldclients import errors
 
 HERE = pathlib.Path(__file__).parent
 DOCUMENT = HERE.parent.parent / "shared" / "DOC.md"
-LEAST = 26
+LEAST = 34
 
 
 def sessions(text):
