@@ -10,7 +10,10 @@ MOST_FORMS = 8
 
 
 class OwnRow:
-    """The own fields of a class: where they can begin, their pairs (place, size) in order, and the near size."""
+    """The own fields of a class in order: their names, and their pairs (place, size).
+
+    start is where they can begin, and limit where the near part ends.
+    """
 
     def __init__(self, library, name):
         item = library.item(name)
@@ -19,9 +22,9 @@ class OwnRow:
         ends = [place + layout.near_size(base) for base, place in bases]
         places = layout.own_places(name)
         self.start = max([POINTER_SIZE if library.is_open(name) else 0] + ends)
-        self.names = [field.name for field in item.fields]
+        self.order = [field.name for field in item.fields]
         self.spans = [(places[field.name], form_size(field.form)) for field in item.fields]
-        self.near_size = layout.near_size(name)
+        self.limit = layout.near_size(name)
 
     def sizes(self):
         """Return the list of the sizes of the fields."""
@@ -46,7 +49,7 @@ def holes(library, name):
     """Return the ascending list of the longest stretches (begin, end) of free bytes of a class."""
     row = OwnRow(library, name)
     # without fields and bases the one byte of the near part is free
-    rest = [(row.end(), row.near_size)] if row.end() < row.near_size else []
+    rest = [(row.end(), row.limit)] if row.end() < row.limit else []
     return row.gaps() + rest
 
 
@@ -66,7 +69,7 @@ def least_order(library, name):
     """Return the names of the own fields of a class in an order with which it has the least near size."""
     row = OwnRow(library, name)
     order, _ = least_row(row.start, row.sizes())
-    return tuple([row.names[index] for index in order])
+    return tuple([row.order[index] for index in order])
 
 
 def check_forms(library, forms):

@@ -133,6 +133,8 @@ class Clients(unittest.TestCase):
         self.desk.add(mine_client())
         self.assertIn(mine_client(), self.desk)
         self.assertNotIn(saying(1), self.desk)
+        self.desk.add(saying(2))
+        self.assertTrue(mine_client() in self.desk and saying(2) in self.desk and saying(1) not in self.desk)
         for value in strangers() + oddities() + [0, 1, True, Resolved(mine_client(), base_library()), (mine_client(), 0),
                                                  Bag(classes=(), variables=(), steps=())]:
             self.assertFalse(value in self.desk)
@@ -274,8 +276,11 @@ class Running(unittest.TestCase):
         desk.add(Client([], (), (("while", 1, (("say", 1),)),)))
         self.assertEqual([desk.run(0, most=many) for many in (0, 3, 5, 6)],
                          [([], "steps"), ([0, 1, 2], "steps"), ([0, 1, 2, 3, 4], "done"), ([0, 1, 2, 3, 4], "done")])
-        said, end = desk.run(1)
-        self.assertEqual((len(said), end), (500, "steps"))
+        self.assertEqual([len(desk.run(1)[0]), len(desk.run(1, most=999)[0]), desk.run(1)[1]], [500, 499, "steps"])
+        self.assertEqual([len(desk.by_turns([1], 7)[0]), len(desk.by_turns([1], 7, most=999)[0])], [500, 499])
+        desk.add(Client([], (), (("say", 1), ("while", 1, (("say", 1),)))))
+        self.assertEqual([len(desk.run(2)[0]), len(desk.by_turns([2], 7)[0])], [500, 500])
+        self.assertEqual([len(desk.run(2, most=1001)[0]), len(desk.by_turns([2], 7, most=1001)[0])], [501, 501])
 
     def test_the_example(self):
         desk = Desk(base_library())

@@ -245,6 +245,18 @@ class Deriving(unittest.TestCase):
         words = self.words([s, own("T"), own("C", "+S")], [own("S"), t, own("C", "+S +T", "", ["f"])])
         self.assertEqual(words, ["parts", "pointers", "tables"])
 
+    def test_overrides_in_tables_that_moved(self):
+        s = own("S", "", "", ["f"])
+        old = [s, own("C", "+S", "", [plain("p")])]
+        new = [s, Class("C", (("S", "shared"),), (hidden("h", "int8"),), (plain("p"), opened("f")))]
+        self.assertEqual([Layout(Library(rows)).pointers("C")[1] for rows in (old, new)], [("S", 8), ("S", 16)])
+        self.assertEqual(self.words(old, new), ["overrides", "size"])
+        # the tables at 8 are of other classes, so they are not compared
+        t = own("T", "", "", ["f"])
+        old, new = [s, t, own("C", "+S +T", "", [])], [s, t, own("C", "+T +S", "", [])]
+        self.assertEqual([Layout(Library(rows)).pointers("C")[1] for rows in (old, new)], [("S", 8), ("T", 16 - 8)])
+        self.assertEqual(self.words(old, new), ["tables"])
+
     def test_parts_of_the_near_part(self):
         a, b = own("A", "", "a4"), own("B", "", "b4")
         self.assertEqual(self.words([a, b, own("C", "A B")], [a, b, own("C", "A B")]), [])

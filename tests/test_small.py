@@ -157,6 +157,17 @@ class Unaccepted(unittest.TestCase):
         self.assertEqual([method.name for method in found.classes[0].methods], ["g"])
         self.accepts([own("A", "", "", [bare("f")])], [own("A", "", "", ["f"])])
 
+    def test_a_client_with_fewer_overrides_than_its_objects_need(self):
+        s = own("S", "", "", [bare("f")])
+        found = self.check([s, own("A", "+S"), own("B", "+S")],
+                           [s, own("A", "+S", "", ["f"]), own("B", "+S", "", ["f"])])
+        self.assertEqual((found.classes[0].methods, found.steps), ((), ()))
+
+    def test_objects_that_no_client_can_make(self):
+        # a hidden method without a body, whose name clients may name elsewhere with other forms
+        rows = [own("A", "", "", [bare("f", (("p", "int1"),), shown=False)]), own("B", "", "", ["f"])]
+        self.accepts(rows, rows)
+
     def test_more_overrides_than_a_class_can_have(self):
         names = [f"f{at}" for at in range(8)]
         one, two = own("S", "", "", names), own("T", "", "", ["g"])
