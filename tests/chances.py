@@ -180,6 +180,21 @@ def repaired(classes, routines):
                     if owner == "" and row.name == name else row for row in routines]
 
 
+def with_new_bodies(chance, library):
+    """Return a library with other bodies, which may use all that it has."""
+    known = {item.name: empty(item) for item in items(library)}
+    heads = library.routines()
+    routines = [Routine(row.name, row.params, row.result, chance.body(dict(row.params), row.result, known, heads, 8))
+                for row in heads]
+    classes = []
+    for item in items(library):
+        bodies = {method.name: method.body for method in chance.filled(item, known, heads).methods}
+        methods = tuple(Method(row.name, row.kind, row.params, row.result, bodies[row.name], row.shown)
+                        for row in item.methods)
+        classes.append(replaced(item, methods=methods))
+    return repaired(classes, routines)
+
+
 def with_body(item, name, at):
     """Return a class without a statement of a method."""
     methods = []

@@ -14,7 +14,7 @@ from oldclients.libraries import Library
 from oldclients.machine import Build
 from oldclients.memory import owners
 from oldclients.stepping import out_of_step
-from tests.chances import Chance, items, later_library, replaced, some_client, some_library
+from tests.chances import Chance, items, later_library, replaced, some_client, some_library, with_new_bodies
 from tests.helpers import bare, doing, main, opened, own, plain
 
 SHUT = {"closed": True, "lent": True}
@@ -462,6 +462,8 @@ class ManyPairs(unittest.TestCase):
             new = later_library(chance, old, chance.one([1, 1, 2]))
             if seed // 2 * 2 == seed:
                 old, new = slimmer(chance, new)
+            if chance.often(0.7):
+                new = with_new_bodies(chance, new)
             rows = dangers(old, new)
             first = unlike(old, new)
             if first is None:

@@ -7,6 +7,7 @@ from oldclients.compiler import Code
 from oldclients.declared import Body, Class, Field, Routine
 from oldclients.libraries import Library
 from oldclients.machine import Build, run_code
+from oldclients.plain import plain_run
 from oldclients.stepping import code_events
 from tests.helpers import (Bag, bare, base_library, diamond, doing, main, mine_resolved, own, plain, raised,
                            strangers)
@@ -108,6 +109,14 @@ class Runs(unittest.TestCase):
         for many, wanted in ((99, ([1], "done")), (100, ([], "deep"))):
             code = code_of("", ("do", None, "again", (many,)), lib=lib)
             self.assertEqual(run_code(code, Build(lib)), wanted)
+
+    def test_bodies_that_end_without_a_return(self):
+        lib = Library([own("A")], [Routine("number", (), "int4", Body()), Routine("null", (), "A", Body())])
+        steps = (("set", "i", 5), ("do", "i", "number", ()), ("say", "i"), ("new", "x", "A"), ("do", "x", "null", ()),
+                 ("if", "x", (("say", 1),), (("say", 2),)))
+        resolved = Resolved(main("i:int4 x:A", *steps), lib)
+        self.assertEqual(run_code(Code(resolved), Build(lib)), ([0, 2], "done"))
+        self.assertEqual(plain_run(resolved), ([0, 2], "done"))
 
     def test_plain_methods_of_null(self):
         lib = Library([own("P", "", "", [plain("p")])])

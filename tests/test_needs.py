@@ -108,6 +108,11 @@ class Needs(unittest.TestCase):
         self.assertEqual(needed("", classes=[own("u", "", "", [method])]), [
             ("class", "A"), ("class", "C"), ("reach", "C", "A")])
 
+    def test_what_a_field_gives_goes_to_the_variable(self):
+        lib = Library([own("A"), own("B", "A"), Class("H", (), (Field("w", "B"),))])
+        resolved = Resolved(main("x:A y:H", ("get", "x", "y", "w")), lib)
+        self.assertEqual(needs(resolved)[2:], [("field", "H", "w", "B"), ("reach", "B", "A")])
+
     def test_members_of_ancestors(self):
         self.assertEqual(needed("x:C i:int1", ("get", "i", "x", "a")), [
             ("field", "A", "a", "int4"), ("reach", "C", "A")])
